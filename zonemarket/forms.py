@@ -13,26 +13,26 @@ RANGES = {
 }
 
 NUMBERS = (
-    ("price", "price", "zones"),
-    ("zone", "zone", "room", "room"),
-    ("zone", "side", "price", "first amount"),
-    ("line", "room", "room"),
-    ("order", "amount"),
-    (),
-    (),
-    ("zone",),
-    (),
-    (),
-    (),
-    (),
-    ("order",),
-    ("line",),
-    (),
-    ("zone", "price"),
-    ("price",),
-    ("price",),
-    ("zone",),
-    (),
+    ("price", "price", "zones"),  # 0 open
+    ("zone", "zone", "room", "room"),  # 1 line
+    ("zone", "side", "price", "first amount"),  # 2 order
+    ("line", "room", "room"),  # 3 rooms
+    ("order", "amount"),  # 4 amend
+    (),  # 5 clear
+    (),  # 6 range
+    ("zone",),  # 7 zone
+    (),  # 8 money
+    (),  # 9 welfare
+    (),  # 10 supports
+    (),  # 11 check
+    ("order",),  # 12 worth
+    ("line",),  # 13 lineworth
+    (),  # 14 areas
+    ("zone", "price"),  # 15 net
+    ("price",),  # 16 tight
+    ("price",),  # 17 shortage
+    ("zone",),  # 18 unit
+    (),  # 19 state
 )
 
 # How many lists a call has behind its numbers; the calls that aren't named here have none.
