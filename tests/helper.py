@@ -1,5 +1,6 @@
 """What the tests share: calls by name, nets as plain values, and plain searches that take the words as they stand."""
 
+import unittest
 from itertools import product
 
 from zonemarket.market import answers
@@ -36,10 +37,48 @@ def zone(number):
     return [7, number]
 
 
+def supporting(prices):
+    return [10, *row(prices)]
+
+
+def check(shares, flows):
+    return [11, *row(shares), *row(flows)]
+
+
+def worth(order):
+    return [12, order]
+
+
+def lineworth(number):
+    return [13, number]
+
+
+def net_at(number, price):
+    return [15, number, price]
+
+
+def tight(t):
+    return [16, t]
+
+
+def shortage(t, group):
+    return [17, t, *row(group)]
+
+
+def unit(number):
+    return [18, number]
+
+
 CLEAR = [5]
 RANGE = [6]
 MONEY = [8]
 WELFARE = [9]
+AREAS = [14]
+STATE = [19]
+
+
+def row(numbers):
+    return [len(numbers)] + list(numbers)
 
 
 def split(told):
@@ -65,8 +104,13 @@ def last(*calls):
     return ask(*calls)[-1]
 
 
-def row(numbers):
-    return [len(numbers)] + list(numbers)
+class AskedTest(unittest.TestCase):
+    def hold(self, net, *asked):
+        """Each of what is asked is a call and what's answered to it behind the 0. Behind all the net is as it was."""
+        told = ask(*net, STATE, *[call for call, _ in asked], STATE)[len(net):]
+        for (call, answer), answered in zip(asked, told[1:]):
+            self.assertEqual(answered, [0, *answer], call)
+        self.assertEqual(told[0], told[-1])
 
 
 class Sketch:
@@ -93,6 +137,19 @@ class Sketch:
         told = ask(*made, *calls)
         assert all(answer[0] == 0 for answer in told[:len(made)])
         return told[len(made):]
+
+    def with_order(self, order):
+        return Sketch(self.low, self.high, self.zones, self.lines, [*self.orders, order])
+
+    def with_amount(self, number, amount):
+        orders = list(self.orders)
+        orders[number] = (*orders[number][:3], amount)
+        return Sketch(self.low, self.high, self.zones, self.lines, orders)
+
+    def with_rooms(self, number, forth, back):
+        lines = list(self.lines)
+        lines[number] = (*lines[number][:2], forth, back)
+        return Sketch(self.low, self.high, self.zones, lines, self.orders)
 
     def __repr__(self):
         return f"Sketch({self.low}, {self.high}, {self.zones}, {self.lines}, {self.orders})"
@@ -209,3 +266,92 @@ def expected_answers(net, shares, flows, least, greatest):
 def asked_answers(net):
     """What the program answers to the calls that expected_answers tells of."""
     return net.ask(CLEAR, RANGE, *[zone(k) for k in range(net.zones)], MONEY, WELFARE)
+
+
+def state_answer(net):
+    return [0, net.low, net.high, net.zones, *row(sum(net.lines, ())), *row(sum(net.orders, ()))]
+
+
+def support_answer(net, shares, flows, prices):
+    inside = all(net.low <= price <= net.high for price in prices)
+    return [0, int(inside and supports(net, shares, flows, prices))]
+
+
+def check_answer(net, welfare, shares, flows):
+    """The verdict on these shares and flows if the outcome has this welfare."""
+    for k, (_, _, _, amount) in enumerate(net.orders):
+        if shares[k] < 0 or shares[k] > amount:
+            return [0, 1, k]
+    for k, (_, _, forth, back) in enumerate(net.lines):
+        if flows[k] < 0 - back or flows[k] > forth:
+            return [0, 2, k]
+    for k, (balance, carried) in enumerate(zip(zone_balances(net, shares), carried_out(net, flows))):
+        if balance != carried:
+            return [0, 3, k]
+    less = welfare - welfare_of(net, shares)
+    return [0, 4, less] if less > 0 else [0, 0, 0]
+
+
+def worth_answer(net, best_welfare, told, shares, number):
+    where, side, price, _ = net.orders[number]
+    gain = price - told[where] if side == BUY else told[where] - price
+    return [0, best_welfare(net) - best_welfare(net.with_amount(number, 0)), shares[number] * gain]
+
+
+def lineworth_answer(net, best_welfare, told, flows, number):
+    a, b, _, _ = net.lines[number]
+    less = best_welfare(net) - best_welfare(net.with_rooms(number, 0, 0))
+    return [0, less, flows[number] * (told[b] - told[a])]
+
+
+def unit_answer(net, best_welfare, number):
+    bought = best_welfare(net.with_order((number, BUY, net.high, 1))) - best_welfare(net)
+    sold = best_welfare(net.with_order((number, SELL, net.low, 1))) - best_welfare(net)
+    return [0, net.high - bought, net.low + sold]
+
+
+def areas_answer(net, flows):
+    """Each zone's area is walked through by itself, from that zone on."""
+    slack = [{a, b} for (a, b, forth, back), flow in zip(net.lines, flows) if 0 - back < flow < forth]
+    least = []
+    for start in range(net.zones):
+        reached = {start}
+        for _ in range(net.zones):
+            for ends in slack:
+                if reached & ends:
+                    reached |= ends
+        least.append(min(reached))
+    return [0, *row(least)]
+
+
+def net_answer(net, number, price):
+    here = [(side, at, amount) for where, side, at, amount in net.orders if where == number]
+    below = sum(amount for side, at, amount in here if side == SELL and at < price)
+    below -= sum(amount for side, at, amount in here if side == BUY and at >= price)
+    up_to = sum(amount for side, at, amount in here if side == SELL and at <= price)
+    up_to -= sum(amount for side, at, amount in here if side == BUY and at > price)
+    return [0, below, up_to]
+
+
+def shortage_of(net, t, group):
+    short = 0
+    for where, side, price, amount in net.orders:
+        if group[where] and side == BUY and price > t:
+            short += amount
+        if group[where] and side == SELL and price <= t:
+            short -= amount
+    for a, b, forth, back in net.lines:
+        if group[b] and not group[a]:
+            short -= forth
+        if group[a] and not group[b]:
+            short -= back
+    return short
+
+
+def tight_answer(net, t):
+    groups = list(product((0, 1), repeat=net.zones))
+    most = max(shortage_of(net, t, group) for group in groups)
+    short = [group for group in groups if shortage_of(net, t, group) == most]
+    least = [int(all(group[k] for group in short)) for k in range(net.zones)]
+    greatest = [int(any(group[k] for group in short)) for k in range(net.zones)]
+    return [0, most, *row(least), *row(greatest)]

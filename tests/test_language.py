@@ -19,6 +19,8 @@ BUILT_IN_METHODS = """append clear copy count endswith extend find get index ins
                       reverse setdefault split startswith strip update values bit_length""".split()
 WALKED = ("zip", "enumerate", "reversed", "range")
 WALKERS = ("list", "tuple", "dict", "sorted", "sum", "any", "all", "enumerate", "zip", "min", "max")
+KEYWORDS = {"sorted": ("key", "reverse"), "min": ("key", "default"), "max": ("key", "default"), "sum": ("start",),
+            "enumerate": ("start",), "zip": ("strict",)}
 NAMES_NOT_USED = """register mro elements open input version_info with_traceback add_note attrgetter breakpoint builtins
                     compile copyright credits delattr dir eval exec exit gc getattr globals hasattr help id importlib
                     license locals methodcaller os quit setattr super type vars sys""".split()
@@ -108,6 +110,43 @@ class LanguageTest(unittest.TestCase):
                     self.assertLessEqual(node.end_lineno - node.lineno + 1, 40, node.name)
                     self.assertIsNone(node.args.vararg or node.args.kwarg)
                     self.assertEqual(node.args.kwonlyargs + node.args.posonlyargs, [])
+
+    def test_annotations_keywords_and_is(self):
+        for _, _, tree in self.each_file():
+            for node in ast.walk(tree):
+                if isinstance(node, ast.FunctionDef):
+                    self.assertIsNone(node.returns)
+                if isinstance(node, ast.arg):
+                    self.assertIsNone(node.annotation)
+                if isinstance(node, ast.Compare) and any(isinstance(op, (ast.Is, ast.IsNot)) for op in node.ops):
+                    self.assertTrue(all(isinstance(part, ast.Constant) for part in node.comparators))
+                if isinstance(node, ast.Call) and node.keywords:
+                    self.assertIsInstance(node.func, ast.Name)
+                    self.assertLessEqual({part.arg for part in node.keywords}, set(KEYWORDS.get(node.func.id, ())))
+
+    def test_sets_are_asked_on_the_spot(self):
+        for _, _, tree in self.each_file():
+            on_the_spot = [part for node in ast.walk(tree) if isinstance(node, ast.Call)
+                           and isinstance(node.func, ast.Name) and node.func.id in ("sorted", "len")
+                           for part in node.args]
+            for node in ast.walk(tree):
+                self.assertNotIsInstance(node, ast.Set)
+                if isinstance(node, ast.Call) and isinstance(node.func, ast.Name) and node.func.id == "set":
+                    self.assertIn(node, on_the_spot, ast.unparse(node))
+
+    def test_lists_and_dicts_of_the_top_are_only_read(self):
+        for _, _, tree in self.each_file():
+            kept = {node.targets[0].id for node in tree.body
+                    if isinstance(node, ast.Assign) and isinstance(node.value, (ast.List, ast.Dict))}
+            read = []
+            for node in ast.walk(tree):
+                if isinstance(node, ast.Subscript) and isinstance(node.ctx, ast.Load):
+                    read.append(node.value)
+                if isinstance(node, ast.Attribute) and node.attr == "get":
+                    read.append(node.value)
+            for node in ast.walk(tree):
+                if isinstance(node, ast.Name) and isinstance(node.ctx, ast.Load) and node.id in kept:
+                    self.assertIn(node, read, node.id)
 
     def test_imports(self):
         drawn = {}

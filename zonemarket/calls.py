@@ -1,13 +1,19 @@
 """The calls on a net that is open. Each answers 0 and what's told with it, or the number of its refusal alone."""
 
+from zonemarket.areas import find_areas
+from zonemarket.check import find_verdict
 from zonemarket.net import BUYS, SELLS, Line, Order
-from zonemarket.outcome import find_outcome
+from zonemarket.outcome import find_outcome, is_supported
 from zonemarket.prices import find_prices
-from zonemarket.sums import buyer_surplus, carried_out, line_rents, outcome_welfare, payments, seller_surplus
+from zonemarket.shortage import Shortages, group_shortage, zone_shortages
+from zonemarket.sums import carried_out, line_rents, order_surpluses, payments, shares_welfare, side_surplus
 from zonemarket.sums import zone_shares
+from zonemarket.welfare import greatest_welfare, with_order, without_line, without_order
 
 UNKNOWN = -3
+MISCOUNTED = -3
 OUTSIDE_BOUNDS = -4
+FLOWS_MISCOUNTED = -4
 FULL = -5
 
 MOST_LINES = 12
@@ -74,9 +80,9 @@ def tell_zone(net, call):
     if zone >= net.zones:
         return [UNKNOWN]
     outcome = find_outcome(net)
-    sold = zone_shares(net, outcome, zone, SELLS)
-    bought = zone_shares(net, outcome, zone, BUYS)
-    return [0, outcome.told[zone], sold, bought, carried_out(net, outcome, zone)]
+    sold = zone_shares(net, outcome.shares, zone, SELLS)
+    bought = zone_shares(net, outcome.shares, zone, BUYS)
+    return [0, outcome.told[zone], sold, bought, carried_out(net, outcome.flows, zone)]
 
 
 def tell_money(net, call):
@@ -86,8 +92,90 @@ def tell_money(net, call):
 
 def tell_welfare(net, call):
     outcome = find_outcome(net)
-    surpluses = [buyer_surplus(net, outcome), seller_surplus(net, outcome)]
-    return [0, outcome_welfare(net, outcome)] + surpluses + [sum(line_rents(net, outcome))]
+    surpluses = [side_surplus(net, outcome, BUYS), side_surplus(net, outcome, SELLS)]
+    return [0, shares_welfare(net, outcome.shares)] + surpluses + [sum(line_rents(net, outcome))]
+
+
+def tell_support(net, call):
+    prices = call.lists[0]
+    if len(prices) != net.zones:
+        return [MISCOUNTED]
+    if not all([net.low <= price <= net.high for price in prices]):
+        return [0, 0]
+    return [0, 1 if is_supported(net, find_outcome(net), prices) else 0]
+
+
+def tell_verdict(net, call):
+    shares = call.lists[0]
+    flows = call.lists[1]
+    if len(shares) != len(net.orders):
+        return [MISCOUNTED]
+    if len(flows) != len(net.lines):
+        return [FLOWS_MISCOUNTED]
+    return [0] + find_verdict(net, shares, flows)
+
+
+def tell_order_worth(net, call):
+    number = call.numbers[0]
+    if number >= len(net.orders):
+        return [UNKNOWN]
+    outcome = find_outcome(net)
+    worth = shares_welfare(net, outcome.shares) - greatest_welfare(without_order(net, number))
+    return [0, worth, order_surpluses(net, outcome)[number]]
+
+
+def tell_line_worth(net, call):
+    number = call.numbers[0]
+    if number >= len(net.lines):
+        return [UNKNOWN]
+    outcome = find_outcome(net)
+    worth = shares_welfare(net, outcome.shares) - greatest_welfare(without_line(net, number))
+    return [0, worth, line_rents(net, outcome)[number]]
+
+
+def tell_areas(net, call):
+    return [0] + row(find_areas(net, find_outcome(net).flows))
+
+
+# Prices are whole, so what's sold below a price, less what's bought at it or above, is what's left one below it.
+def tell_zone_net(net, call):
+    zone = call.numbers[0]
+    price = call.numbers[1]
+    if zone >= net.zones:
+        return [UNKNOWN]
+    return [0, -zone_shortages(net, price - 1)[zone], -zone_shortages(net, price)[zone]]
+
+
+def tell_tightness(net, call):
+    tight = Shortages(net).tightness(call.numbers[0])
+    return [0, tight.most] + row(tight.least_group) + row(tight.greatest_group)
+
+
+def tell_shortage(net, call):
+    group = call.lists[0]
+    if len(group) != net.zones:
+        return [MISCOUNTED]
+    return [0, group_shortage(net, group, call.numbers[0])]
+
+
+def tell_unit(net, call):
+    zone = call.numbers[0]
+    if zone >= net.zones:
+        return [UNKNOWN]
+    welfare = greatest_welfare(net)
+    bought = greatest_welfare(with_order(net, Order(zone, BUYS, net.high, 1))) - welfare
+    sold = greatest_welfare(with_order(net, Order(zone, SELLS, net.low, 1))) - welfare
+    return [0, net.high - bought, net.low + sold]
+
+
+def tell_state(net, call):
+    lines = []
+    for line in net.lines:
+        lines.extend([line.first, line.second, line.forth, line.back])
+    orders = []
+    for order in net.orders:
+        orders.extend([order.zone, order.side, order.price, order.amount])
+    return [0, net.low, net.high, net.zones] + row(lines) + row(orders)
 
 
 CALLS = {
@@ -100,11 +188,17 @@ CALLS = {
     7: tell_zone,
     8: tell_money,
     9: tell_welfare,
+    10: tell_support,
+    11: tell_verdict,
+    12: tell_order_worth,
+    13: tell_line_worth,
+    14: tell_areas,
+    15: tell_zone_net,
+    16: tell_tightness,
+    17: tell_shortage,
+    18: tell_unit,
+    19: tell_state,
 }
-
-
-def has_call(place):
-    return place in CALLS
 
 
 def answer_call(net, call):

@@ -10,6 +10,8 @@ RANGES = {
     "amount": (0, 1000000000),
     "line": (0, 11),
     "order": (0, 39),
+    "share or flow": (-2000000000, 2000000000),
+    "member": (0, 1),
 }
 
 NUMBERS = (
@@ -35,27 +37,44 @@ NUMBERS = (
     (),  # 19 state
 )
 
-# How many lists a call has behind its numbers; the calls that aren't named here have none.
-LISTS = {10: 1, 11: 2, 17: 1}
+# What the numbers of each list are, for the calls that have lists behind their numbers.
+LISTS = {
+    10: ("price",),  # supports
+    11: ("share or flow", "share or flow"),  # check
+    17: ("member",),  # shortage
+}
+
+LONGEST_LIST = 64
 
 
 class Call:
-    def __init__(self, place, numbers):
+    def __init__(self, place, numbers, lists):
         self.place = place
         self.numbers = numbers
+        self.lists = lists
+
+
+def has_form(place):
+    return 0 <= place < len(NUMBERS)
 
 
 # A place without a form is read as a call without numbers, so that reading always goes on.
 def number_names(place):
-    return NUMBERS[place] if 0 <= place < len(NUMBERS) else ()
+    return NUMBERS[place] if has_form(place) else ()
 
 
-# A call's lists aren't kept: none of the calls that are answered so far has one.
-def end_of_lists(numbers, place, start):
-    end = start
-    for count in range(LISTS.get(place, 0)):
-        end += 1 + numbers[end]
-    return end
+def list_names(place):
+    return LISTS.get(place, ())
+
+
+def read_lists(numbers, place, start):
+    lists = []
+    count_place = start
+    while len(lists) < len(list_names(place)):
+        end = count_place + 1 + numbers[count_place]
+        lists.append(numbers[count_place + 1:end])
+        count_place = end
+    return lists
 
 
 def read_calls(numbers):
@@ -64,13 +83,21 @@ def read_calls(numbers):
     while start < len(numbers):
         place = numbers[start]
         end = start + 1 + len(number_names(place))
-        calls.append(Call(place, numbers[start + 1:end]))
-        start = end_of_lists(numbers, place, end)
+        lists = read_lists(numbers, place, end)
+        calls.append(Call(place, numbers[start + 1:end], lists))
+        start = end + sum([1 + len(each) for each in lists])
     return calls
 
 
-def within_ranges(call):
-    for name, number in zip(number_names(call.place), call.numbers):
-        if not RANGES[name][0] <= number <= RANGES[name][1]:
-            return False
-    return True
+def in_range(name, number):
+    return RANGES[name][0] <= number <= RANGES[name][1]
+
+
+def list_as_told(name, numbers):
+    return len(numbers) <= LONGEST_LIST and all([in_range(name, number) for number in numbers])
+
+
+def as_told(call):
+    numbers = [in_range(name, number) for name, number in zip(number_names(call.place), call.numbers)]
+    lists = [list_as_told(name, each) for name, each in zip(list_names(call.place), call.lists)]
+    return has_form(call.place) and all(numbers) and all(lists)

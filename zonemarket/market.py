@@ -1,7 +1,7 @@
 """A list of calls on one market, answered one behind another."""
 
-from zonemarket.calls import answer_call, has_call
-from zonemarket.forms import read_calls, within_ranges
+from zonemarket.calls import answer_call
+from zonemarket.forms import as_told, read_calls
 from zonemarket.net import Net
 
 NOT_AS_TOLD = -1
@@ -15,12 +15,10 @@ class Market:
         self.net = None
 
     def answer(self, call):
-        if not within_ranges(call):
+        if not as_told(call):
             return [NOT_AS_TOLD]
         if call.place == OPENING:
             return self.make_net(call.numbers[0], call.numbers[1], call.numbers[2])
-        if not has_call(call.place):
-            return [NOT_AS_TOLD]
         if self.net is None:
             return [NO_NET]
         return answer_call(self.net, call)
@@ -28,7 +26,7 @@ class Market:
     def make_net(self, low, high, zones):
         if low > high:
             return [NOT_AS_TOLD]
-        self.net = Net(low, high, zones)
+        self.net = Net(low, high, zones, [], [])
         return [0]
 
 

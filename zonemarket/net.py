@@ -21,9 +21,20 @@ class Order:
 
 
 class Net:
-    def __init__(self, low, high, zones):
+    def __init__(self, low, high, zones, lines, orders):
         self.low = low
         self.high = high
         self.zones = zones
-        self.lines = []
-        self.orders = []
+        self.lines = lines
+        self.orders = orders
+
+
+# What an order gains by each unit of its share, and a line by each unit of its flow, if the zones have these prices.
+def order_gain(order, prices):
+    if order.side == BUYS:
+        return order.price - prices[order.zone]
+    return prices[order.zone] - order.price
+
+
+def line_gain(line, prices):
+    return prices[line.second] - prices[line.first]

@@ -1,7 +1,7 @@
 """The outcome: the shares and flows that are chosen of all possible ones, and the told prices beside them."""
 
 from zonemarket.circulation import Arc, Circulation
-from zonemarket.net import BUYS
+from zonemarket.net import BUYS, line_gain, order_gain
 from zonemarket.prices import find_prices
 
 
@@ -16,7 +16,7 @@ class Outcome:
 def order_arc(order, prices, outside):
     tail = order.zone if order.side == BUYS else outside
     head = outside if order.side == BUYS else order.zone
-    gain = order.price - prices[order.zone] if order.side == BUYS else prices[order.zone] - order.price
+    gain = order_gain(order, prices)
     if gain > 0:
         return Arc(tail, head, order.amount, order.amount)
     if gain < 0:
@@ -25,11 +25,20 @@ def order_arc(order, prices, outside):
 
 
 def line_arc(line, prices):
-    if prices[line.second] > prices[line.first]:
+    gain = line_gain(line, prices)
+    if gain > 0:
         return Arc(line.first, line.second, line.forth, line.forth)
-    if prices[line.second] < prices[line.first]:
+    if gain < 0:
         return Arc(line.first, line.second, -line.back, -line.back)
     return Arc(line.first, line.second, -line.back, line.forth)
+
+
+def order_arcs(net, prices):
+    return [order_arc(order, prices, net.zones) for order in net.orders]
+
+
+def line_arcs(net, prices):
+    return [line_arc(line, prices) for line in net.lines]
 
 
 def highest_shares(circulation, arcs):
@@ -54,8 +63,14 @@ def flows_nearest_to_zero(circulation, arcs):
 # bound each share and flow, and within these bounds no welfare is left to be weighed.
 def find_outcome(net):
     told = find_prices(net).told
-    order_arcs = [order_arc(order, told, net.zones) for order in net.orders]
-    line_arcs = [line_arc(line, told) for line in net.lines]
-    circulation = Circulation(net.zones + 1, order_arcs + line_arcs)
-    shares = highest_shares(circulation, order_arcs)
-    return Outcome(told, shares, flows_nearest_to_zero(circulation, line_arcs))
+    share_arcs = order_arcs(net, told)
+    flow_arcs = line_arcs(net, told)
+    circulation = Circulation(net.zones + 1, share_arcs + flow_arcs)
+    shares = highest_shares(circulation, share_arcs)
+    return Outcome(told, shares, flows_nearest_to_zero(circulation, flow_arcs))
+
+
+# Prices support an outcome just if each share and flow keeps the bounds that these prices set it.
+def is_supported(net, outcome, prices):
+    arcs = order_arcs(net, prices) + line_arcs(net, prices)
+    return all([arc.least <= flow <= arc.most for arc, flow in zip(arcs, outcome.shares + outcome.flows)])

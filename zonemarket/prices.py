@@ -1,7 +1,6 @@
 """The least, the greatest and the told price of each zone."""
 
-from zonemarket.groups import all_groups
-from zonemarket.shortage import group_shortages, groups_with_most, room_into
+from zonemarket.shortage import Shortages
 
 
 class Prices:
@@ -17,19 +16,17 @@ def turning_points(net):
     return sorted(set([price for price in prices if price < net.high]))
 
 
-# A zone's least price is above t just if each group of most shortage at t holds the zone, its greatest price just
-# if some such group holds it; so each of the two is the first point where that ends.
+# A zone's least price is above t just if the least group at t holds the zone, its greatest price just if the greatest
+# group does; so each of the two is the first point where that ends.
 def find_prices(net):
-    groups = all_groups(net.zones)
-    rooms = [room_into(net, group) for group in groups]
+    shortages = Shortages(net)
     least = [net.high] * net.zones
     greatest = [net.high] * net.zones
     for t in reversed(turning_points(net)):
-        short = groups_with_most(groups, group_shortages(net, groups, rooms, t))
+        tight = shortages.tightness(t)
         for zone in range(net.zones):
-            inside = [group[zone] for group in short]
-            if min(inside) == 0:
+            if tight.least_group[zone] == 0:
                 least[zone] = t
-            if max(inside) == 0:
+            if tight.greatest_group[zone] == 0:
                 greatest[zone] = t
     return Prices(least, greatest)

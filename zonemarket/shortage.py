@@ -1,6 +1,6 @@
 """Shortages: how much a group of zones lacks at a number t, whatever its lines bring."""
 
-from zonemarket.groups import enters
+from zonemarket.groups import all_groups, enters, held_by_each, held_by_some
 from zonemarket.net import BUYS
 
 
@@ -25,16 +25,31 @@ def room_into(net, group):
     return room
 
 
-# rooms holds the room into each of the groups: it's the same at every t, so it's worked out once by the caller.
-def group_shortages(net, groups, rooms, t):
-    lacks = zone_shortages(net, t)
-    shortages = []
-    for group, room in zip(groups, rooms):
-        lack = sum([amount * inside for amount, inside in zip(lacks, group)])
-        shortages.append(lack - room)
-    return shortages
+def lack_within(group, lacks):
+    return sum([amount * inside for amount, inside in zip(lacks, group)])
 
 
-def groups_with_most(groups, shortages):
-    most = max(shortages)
-    return [group for group, shortage in zip(groups, shortages) if shortage == most]
+def group_shortage(net, group, t):
+    return lack_within(group, zone_shortages(net, t)) - room_into(net, group)
+
+
+class Tightness:
+    def __init__(self, most, least_group, greatest_group):
+        self.most = most
+        self.least_group = least_group
+        self.greatest_group = greatest_group
+
+
+# All groups of a net's zones. The room into a group is the same at every t, so it's worked out once for all of them.
+class Shortages:
+    def __init__(self, net):
+        self.net = net
+        self.groups = all_groups(net.zones)
+        self.rooms = [room_into(net, group) for group in self.groups]
+
+    def tightness(self, t):
+        lacks = zone_shortages(self.net, t)
+        shortages = [lack_within(group, lacks) - room for group, room in zip(self.groups, self.rooms)]
+        most = max(shortages)
+        short = [group for group, shortage in zip(self.groups, shortages) if shortage == most]
+        return Tightness(most, held_by_each(short, self.net.zones), held_by_some(short, self.net.zones))

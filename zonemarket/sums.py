@@ -1,19 +1,19 @@
-"""Sums over an outcome: energy and money."""
+"""Sums over shares and flows: energy and money."""
 
-from zonemarket.net import BUYS, SELLS
+from zonemarket.net import BUYS, SELLS, line_gain, order_gain
 
 
-def zone_shares(net, outcome, zone, side):
+def zone_shares(net, shares, zone, side):
     total = 0
-    for order, share in zip(net.orders, outcome.shares):
+    for order, share in zip(net.orders, shares):
         if order.zone == zone and order.side == side:
             total += share
     return total
 
 
-def carried_out(net, outcome, zone):
+def carried_out(net, flows, zone):
     carried = 0
-    for line, flow in zip(net.lines, outcome.flows):
+    for line, flow in zip(net.lines, flows):
         if line.first == zone:
             carried += flow
         if line.second == zone:
@@ -30,22 +30,21 @@ def payments(net, outcome, side):
 
 
 # What the orders of one side would pay or get if each had its own price.
-def own_value(net, outcome, side):
-    return sum([share * order.price for order, share in zip(net.orders, outcome.shares) if order.side == side])
+def own_value(net, shares, side):
+    return sum([share * order.price for order, share in zip(net.orders, shares) if order.side == side])
 
 
-def outcome_welfare(net, outcome):
-    return own_value(net, outcome, BUYS) - own_value(net, outcome, SELLS)
+def shares_welfare(net, shares):
+    return own_value(net, shares, BUYS) - own_value(net, shares, SELLS)
 
 
-def buyer_surplus(net, outcome):
-    return own_value(net, outcome, BUYS) - payments(net, outcome, BUYS)
+def order_surpluses(net, outcome):
+    return [share * order_gain(order, outcome.told) for order, share in zip(net.orders, outcome.shares)]
 
 
-def seller_surplus(net, outcome):
-    return payments(net, outcome, SELLS) - own_value(net, outcome, SELLS)
+def side_surplus(net, outcome, side):
+    return sum([gain for order, gain in zip(net.orders, order_surpluses(net, outcome)) if order.side == side])
 
 
 def line_rents(net, outcome):
-    told = outcome.told
-    return [flow * (told[line.second] - told[line.first]) for line, flow in zip(net.lines, outcome.flows)]
+    return [flow * line_gain(line, outcome.told) for line, flow in zip(net.lines, outcome.flows)]
